@@ -1,0 +1,1 @@
+"""Grudgecote: doves that hand grudges to and fro, some asleep."""

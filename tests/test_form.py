@@ -1,0 +1,71 @@
+"""What the rules of the language and of the interface ask of the package's files."""
+
+import ast
+import pathlib
+import unittest
+
+import grudgecote
+
+FOLDER = pathlib.Path(grudgecote.__file__).parent
+FUNCTIONS = {
+    "standings.py": {
+        "is_standing": ["thing"],
+        "uppermost": ["standing", "dove"],
+        "held": ["standing", "dove", "about"],
+        "grudges_in": ["standing"],
+        "called": ["standing", "order"],
+        "beside": ["one", "other"],
+    },
+}
+
+
+def files():
+    """Each file of the package: its name, its text, its tree."""
+    for path in sorted(FOLDER.glob("*.py")):
+        text = path.read_text(encoding="utf-8")
+        yield path.name, text, ast.parse(text)
+
+
+class Form(unittest.TestCase):
+
+    def test_the_folder_holds_python_files_alone(self):
+        names = [path.name for path in FOLDER.iterdir() if path.name != "__pycache__"]
+        self.assertIn("__init__.py", names)
+        self.assertEqual([name for name in names if not name.endswith(".py")], [])
+
+    def test_signs_and_sizes(self):
+        for name, text, tree in files():
+            rows = text.split("\n")
+            self.assertTrue(all(sign == "\n" or " " <= sign <= "~" for sign in text), name)
+            self.assertLessEqual(len(rows), 400, name)
+            self.assertLessEqual(max(len(row) for row in rows), 120, name)
+            for node in ast.walk(tree):
+                if isinstance(node, ast.FunctionDef):
+                    self.assertLessEqual(node.end_lineno - node.lineno + 1, 40, (name, node.name))
+
+    def test_imports_are_of_the_package_alone(self):
+        for name, _, tree in files():
+            for node in ast.walk(tree):
+                self.assertNotIsInstance(node, ast.Import, name)
+                if isinstance(node, ast.ImportFrom):
+                    self.assertEqual(node.level, 0, name)
+                    self.assertTrue(node.module.startswith("grudgecote."), (name, node.module))
+
+    def test_no_percent_sign_in_a_text_and_no_float(self):
+        for name, _, tree in files():
+            for node in ast.walk(tree):
+                if isinstance(node, ast.Constant):
+                    self.assertNotIsInstance(node.value, float, name)
+                    self.assertNotIn("%", str(node.value), name)
+
+    def test_functions_stand_where_the_interface_lists_them(self):
+        trees = {name: tree for name, _, tree in files()}
+        for name, functions in FUNCTIONS.items():
+            defined = {node.name: node for node in trees[name].body if isinstance(node, ast.FunctionDef)}
+            for function, words in functions.items():
+                self.assertEqual([word.arg for word in defined[function].args.args], words, function)
+                self.assertEqual([word.arg for word in defined[function].args.kwonlyargs], [], function)
+
+
+if __name__ == "__main__":
+    unittest.main()
