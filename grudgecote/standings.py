@@ -1,6 +1,6 @@
 """Standings: for each dove its heap, from below to above, of grudges (about, word)."""
 
-from grudgecote.errors import NoDove
+from grudgecote.errors import NoDove, NotSame
 
 LONGEST_WORD = 6
 
@@ -53,6 +53,12 @@ def need_dove(standing, dove):
     # Without this a dove below 0 would be read from the end.
     if not 0 <= dove < len(standing):
         raise NoDove(dove)
+
+
+def need_same(one, other):
+    """Refuse two standings that have not as many doves."""
+    if len(one) != len(other):
+        raise NotSame()
 
 
 def uppermost(standing, dove):

@@ -4,6 +4,7 @@ import copy
 import random
 
 SIGNS = "abcdefghijklmnopqrstuvwxyz"
+HUGE = 10 ** 5000
 
 
 def as_lists(thing):
@@ -52,6 +53,97 @@ def random_standings(seed, many):
     return [random_standing(chance) for _ in range(many)]
 
 
+def random_asleep(chance, standing):
+    """A rising list of some of its doves, perhaps none, perhaps all."""
+    share = chance.choice([0, 0.2, 0.5, 0.8, 1])
+    return [dove for dove in range(len(standing)) if chance.random() < share]
+
+
+def after_peck(standing, dove):
+    """What a let peck leads to, and the dove that got it."""
+    heaps = as_lists(standing)
+    about, word = heaps[dove][-1]
+    heaps[dove] = heaps[dove][:-1]
+    heaps[about] = heaps[about] + [(dove, word)]
+    return as_tuples(heaps), about
+
+
+def may_peck(standing, asleep):
+    """The doves that may peck."""
+    return [dove for dove, heap in enumerate(standing) if heap and dove not in asleep]
+
+
+def wander(chance, standing, asleep, many):
+    """At most so many pecks by chance: the row, and what each of them leads to."""
+    row = []
+    ways = [standing]
+    while len(row) < many and may_peck(ways[-1], asleep):
+        row.append(chance.choice(may_peck(ways[-1], asleep)))
+        ways.append(after_peck(ways[-1], row[-1])[0])
+    return row, ways
+
+
+def all_led(standing, asleep=()):
+    """All standings that pecks lead to, found one by one."""
+    found = {standing: True}
+    left = [standing]
+    while left:
+        here = left.pop()
+        for dove in may_peck(here, asleep):
+            there = after_peck(here, dove)[0]
+            if there not in found:
+                found[there] = True
+                left.append(there)
+    return list(found)
+
+
+def tinkered(chance, standing):
+    """The standing with something put in, taken out, changed or moved, which no peck does."""
+    heaps = as_lists(standing)
+    dove = chance.randrange(len(heaps))
+    heap = heaps[dove]
+    place = chance.randint(0, len(heap))
+    deed = chance.choice(["in", "out", "word", "swap", "about"])
+    others = [about for about in range(len(heaps)) if about != dove]
+    if deed == "in" and others:
+        heap.insert(place, [chance.choice(others), chance.choice("ab")])
+    elif place < len(heap) and deed == "out":
+        heap.pop(place)
+    elif place < len(heap) and deed == "word":
+        heap[place][1] = chance.choice("ab")
+    elif place < len(heap) and deed == "swap":
+        heap.append(heap.pop(place))
+    elif place < len(heap) and deed == "about":
+        heap[place][0] = chance.choice(others)
+    return as_tuples(heaps)
+
+
+def random_pair(chance, standing, asleep):
+    """Two standings of as many doves: led to one another, led and tinkered with, or of any kind."""
+    one = wander(chance, standing, asleep, chance.choice([0, 3, 30]))[1][-1]
+    kind = chance.choice(["led", "back", "tinkered", "any"])
+    if kind == "any":
+        return one, random_standing(chance, len(standing), sum(len(heap) for heap in standing))
+    other = wander(chance, one, asleep, chance.choice([0, 1, 5, 60]))[1][-1]
+    if kind == "tinkered":
+        for _ in range(chance.choice([1, 1, 2, 5])):
+            other = tinkered(chance, other)
+    return (other, one) if kind == "back" else (one, other)
+
+
+def random_pairs(seed, many):
+    """So many triples (one, other, asleep), of few doves and many, of words alike and unlike."""
+    chance = random.Random(seed)
+    found = []
+    for _ in range(many):
+        standing = random_standing(chance, chance.randint(1, 8), chance.choice([0, 3, 8, 24]))
+        if chance.random() < 0.5:
+            standing = as_tuples([[(about, "ab"[len(word) % 2]) for about, word in heap] for heap in standing])
+        asleep = random_asleep(chance, standing)
+        found.append((*random_pair(chance, standing, asleep), asleep))
+    return found
+
+
 def with_kinds(thing):
     """The thing with the kind of each part: True is not 1, and a tuple is no list."""
     if isinstance(thing, (list, tuple)):
@@ -61,6 +153,15 @@ def with_kinds(thing):
     return (thing.__class__, thing)
 
 
+def lists_in(thing):
+    """All lists in the thing, the thing among them."""
+    found = [thing] if isinstance(thing, list) else []
+    if isinstance(thing, (list, tuple)):
+        for part in thing:
+            found.extend(lists_in(part))
+    return found
+
+
 class Promises:
     """What [2] says of each call; beside unittest.TestCase."""
 
@@ -68,23 +169,52 @@ class Promises:
         """Alike, and of the same kinds throughout."""
         self.assertEqual(with_kinds(got), with_kinds(wanted))
 
-    def told(self, wanted, function, **handed):
-        """All that is handed in may be in lists or tuples, by place or name; it stays as it was."""
-        for guise in range(4):
-            given = {name: guises(thing)[guise] for name, thing in handed.items()}
-            before = copy.deepcopy(given)
-            self.same(function(*given.values()), wanted)
-            self.same(function(**given), wanted)
-            self.same(given, before)
+    def calls(self, function, handed, asleep):
+        """The calls that are one and the same, and what they hand in.
 
-    def refused(self, kind, field, function, **handed):
-        """The same of a refusal: of just this class, with just this field."""
+        All may be in lists or tuples, by place or by name; who sleeps by name alone, and left
+        out where all are awake.
+        """
         for guise in range(4):
             given = {name: guises(thing)[guise] for name, thing in handed.items()}
-            before = copy.deepcopy(given)
-            for call in (lambda: function(*given.values()), lambda: function(**given)):
-                with self.assertRaises(kind) as caught:
-                    call()
-                self.assertIs(caught.exception.__class__, kind)
-                self.same(vars(caught.exception), field)
-            self.same(given, before)
+            named = {} if asleep is None else {"asleep": guises(asleep)[guise]}
+            yield given, named, lambda: function(*given.values(), **named)
+            yield given, named, lambda: function(**given, **named)
+            if asleep is not None and not asleep:
+                yield given, named, lambda: function(*given.values())
+                yield given, named, lambda: function(**given)
+
+    def stays(self, function, handed, asleep, check):
+        """Make the check of each call; what is handed in stays as it was."""
+        for given, named, call in self.calls(function, handed, asleep):
+            before = copy.deepcopy((given, named))
+            check(call)
+            self.same((given, named), before)
+        if asleep is not None:
+            self.assertRaises(TypeError, function, *handed.values(), asleep)
+
+    def told(self, wanted, function, *, asleep=None, **handed):
+        """What is told, and told again when the asker has spoilt what was told."""
+        def check(call):
+            told = call()
+            again = call()
+            self.same(told, wanted)
+            lists = lists_in(told) + lists_in(again)
+            self.assertEqual(len({id(part) for part in lists}), len(lists))
+            for part in lists_in(told):
+                part.append("spoilt")
+                part.reverse()
+            self.same(again, wanted)
+            self.same(call(), wanted)
+
+        self.stays(function, handed, asleep, check)
+
+    def refused(self, kind, field, function, *, asleep=None, **handed):
+        """The same of a refusal: of just this class, with just this field."""
+        def check(call):
+            with self.assertRaises(kind) as caught:
+                call()
+            self.assertIs(caught.exception.__class__, kind)
+            self.same(vars(caught.exception), field)
+
+        self.stays(function, handed, asleep, check)

@@ -7,14 +7,30 @@ import unittest
 import grudgecote
 
 FOLDER = pathlib.Path(grudgecote.__file__).parent
+# Who sleeps is the one argument behind a star; True where a function takes it.
 FUNCTIONS = {
     "standings.py": {
-        "is_standing": ["thing"],
-        "uppermost": ["standing", "dove"],
-        "held": ["standing", "dove", "about"],
-        "grudges_in": ["standing"],
-        "called": ["standing", "order"],
-        "beside": ["one", "other"],
+        "is_standing": (["thing"], False),
+        "uppermost": (["standing", "dove"], False),
+        "held": (["standing", "dove", "about"], False),
+        "grudges_in": (["standing"], False),
+        "called": (["standing", "order"], False),
+        "beside": (["one", "other"], False),
+    },
+    "pecks.py": {
+        "pecked": (["standing", "dove"], True),
+        "gone": (["standing", "row"], True),
+        "backwards": (["standing", "row"], True),
+    },
+    "lines.py": {
+        "line": (["standing", "one", "other"], False),
+        "cut": (["standing", "one", "other"], False),
+        "lines_of": (["standing"], False),
+        "first_unlike": (["one", "other"], False),
+    },
+    "still.py": {
+        "still": (["one", "other"], True),
+        "first_moved": (["one", "other"], True),
     },
 }
 
@@ -62,9 +78,12 @@ class Form(unittest.TestCase):
         trees = {name: tree for name, _, tree in files()}
         for name, functions in FUNCTIONS.items():
             defined = {node.name: node for node in trees[name].body if isinstance(node, ast.FunctionDef)}
-            for function, words in functions.items():
-                self.assertEqual([word.arg for word in defined[function].args.args], words, function)
-                self.assertEqual([word.arg for word in defined[function].args.kwonlyargs], [], function)
+            for function, (words, sleepers) in functions.items():
+                handed = defined[function].args
+                self.assertEqual([word.arg for word in handed.args], words, function)
+                self.assertEqual([word.arg for word in handed.kwonlyargs], ["asleep"] * sleepers, function)
+                self.assertEqual([ast.unparse(worth) for worth in handed.kw_defaults], ["()"] * sleepers, function)
+                self.assertEqual(handed.defaults, [], function)
 
 
 if __name__ == "__main__":
