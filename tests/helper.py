@@ -1,6 +1,7 @@
 """What several test files need."""
 
 import copy
+import itertools
 import random
 
 SIGNS = "abcdefghijklmnopqrstuvwxyz"
@@ -32,6 +33,31 @@ def mixed(thing, depth=0):
 def guises(thing):
     """The thing as it may be handed in: in tuples, in lists, in both."""
     return [as_tuples(thing), as_lists(thing), mixed(thing), mixed(thing, 1)]
+
+
+def places_in(thing):
+    """The way to each part of the thing, the bare way to itself first."""
+    found = [()]
+    if isinstance(thing, (list, tuple)):
+        for place, part in enumerate(thing):
+            found.extend((place,) + way for way in places_in(part))
+    return found
+
+
+def at(thing, way):
+    """The part to which the way leads."""
+    for place in way:
+        thing = thing[place]
+    return thing
+
+
+def with_part(thing, way, part):
+    """The thing with another part there."""
+    if not way:
+        return part
+    kept = list(thing)
+    kept[way[0]] = with_part(thing[way[0]], way[1:], part)
+    return thing.__class__(kept)
 
 
 def random_standing(chance, doves=None, grudges=None):
@@ -119,15 +145,17 @@ def tinkered(chance, standing):
 
 
 def random_pair(chance, standing, asleep):
-    """Two standings of as many doves: led to one another, led and tinkered with, or of any kind."""
+    """Two standings of as many doves: led to one another, tinkered with, shuffled or of any kind."""
     one = wander(chance, standing, asleep, chance.choice([0, 3, 30]))[1][-1]
-    kind = chance.choice(["led", "back", "tinkered", "any"])
+    kind = chance.choice(["led", "back", "tinkered", "shuffled", "any"])
     if kind == "any":
         return one, random_standing(chance, len(standing), sum(len(heap) for heap in standing))
     other = wander(chance, one, asleep, chance.choice([0, 1, 5, 60]))[1][-1]
     if kind == "tinkered":
         for _ in range(chance.choice([1, 1, 2, 5])):
             other = tinkered(chance, other)
+    if kind == "shuffled":
+        return one, shuffled(chance, other)
     return (other, one) if kind == "back" else (one, other)
 
 
@@ -136,11 +164,152 @@ def random_pairs(seed, many):
     chance = random.Random(seed)
     found = []
     for _ in range(many):
-        standing = random_standing(chance, chance.randint(1, 8), chance.choice([0, 3, 8, 24]))
+        standing = random_standing(chance, chance.randint(1, 8), chance.choice([0, 3, 8, 16, 24]))
         if chance.random() < 0.5:
             standing = as_tuples([[(about, "ab"[len(word) % 2]) for about, word in heap] for heap in standing])
         asleep = random_asleep(chance, standing)
         found.append((*random_pair(chance, standing, asleep), asleep))
+    return found
+
+
+def random_gifts(chance, doves=None, grudges=None):
+    """A triple (one, other, asleep) that no line and no heap bars: a row leads there, or a ring bars it."""
+    many = chance.randint(3, 8) if doves is None else doves
+    # Two who sleep and two awake are the fewest of a ring.
+    asleep = sorted(chance.sample(range(many), chance.randint(min(2, many - 2), max(2, many - 2))))
+    heaps = [[] for _ in range(many)]
+    awake = [dove for dove in range(many) if dove not in asleep]
+    for _ in range(chance.choice([3, 8, 16, 24]) if grudges is None else grudges):
+        dove = chance.choice(awake if chance.random() < 0.9 else range(many))
+        wanted = asleep if chance.random() < 0.8 else range(many)
+        about = chance.choice([about for about in wanted if about != dove] or [(dove + 1) % many])
+        heaps[dove].append((about, chance.choice("abc")))
+    one = as_tuples(heaps)
+    other = wander(chance, one, asleep, chance.choice([5, 200, 200]))[1][-1]
+    return one, shuffled(chance, other, still_by_hand(one, other, asleep)), asleep
+
+
+def gone_by_hand(standing, row, asleep):
+    """What a row of pecks leads to; None where one of them isn't let."""
+    for dove in row:
+        if dove not in may_peck(standing, asleep):
+            return None
+        standing = after_peck(standing, dove)[0]
+    return standing
+
+
+def shuffled(chance, standing, lowest=None):
+    """The standing with grudges shuffled in each heap, but those beneath the lowest place; all lines stay."""
+    heaps = []
+    for dove, heap in enumerate(standing):
+        start = 0 if lowest is None else lowest[dove]
+        words = {about: [word for target, word in heap[start:] if target == about] for about, _ in heap}
+        abouts = [about for about, _ in heap[start:]]
+        chance.shuffle(abouts)
+        heaps.append(heap[:start] + tuple((about, words[about].pop(0)) for about in abouts))
+    return tuple(heaps)
+
+
+def line_by_hand(standing, one, other):
+    """Put together grudge by grudge."""
+    words = []
+    for about, word in standing[one]:
+        if about == other:
+            words.append(word)
+    many = len(words)
+    for about, word in standing[other]:
+        if about == one:
+            words.insert(many, word)
+    return tuple(words)
+
+
+def still_by_hand(one, other, asleep):
+    many = []
+    for dove, heap in enumerate(one):
+        left = sum(1 for about, _ in other[dove] if about in asleep)
+        upto = 0
+        for place, (about, _) in enumerate(heap):
+            if dove in asleep:
+                upto = place + 1
+            elif about in asleep and left:
+                left -= 1
+                upto = place + 1
+        many.append(upto)
+    return tuple(many)
+
+
+def lines_barring(one, other):
+    """All ("line", one, other, place) that can be shown, rising."""
+    found = []
+    for low, high in itertools.combinations(range(len(one)), 2):
+        both = itertools.zip_longest(line_by_hand(one, low, high), line_by_hand(other, low, high))
+        found.extend(("line", low, high, place) for place, (here, there) in enumerate(both) if here != there)
+    return found
+
+
+def heaps_barring(one, other, asleep):
+    """All ("heap", dove, place) that can be shown, rising."""
+    found = []
+    for dove, many in enumerate(still_by_hand(one, other, asleep)):
+        there = list(other[dove]) + [None] * many
+        found.extend(("heap", dove, place) for place in range(many) if one[dove][place] != there[place])
+    return found
+
+
+def names_in(standing):
+    """For each (dove, place) which grudge it is, by its pair and its place in their line."""
+    names = {}
+    for dove, heap in enumerate(standing):
+        for place, (about, _) in enumerate(heap):
+            ahead = [target for target, _ in heap[:place]].count(about)
+            low, high = sorted([dove, about])
+            many = len(line_by_hand(standing, low, high))
+            names[dove, place] = (low, high, ahead if dove == low else many - 1 - ahead)
+    return names
+
+
+def givings_by_hand(one, other, asleep):
+    """Of two standings that no line and no heap bars: each GIVING, and where it lies in other."""
+    where = {name: at for at, name in names_in(other).items()}
+    lies = {}
+    for (dove, place), name in sorted(names_in(one).items()):
+        about = one[dove][place][0]
+        if dove not in asleep and about in asleep and where[name][0] == about:
+            lies[dove, place] = where[name]
+    return lies
+
+
+def waits_by_hand(one, other, asleep):
+    lies = givings_by_hand(one, other, asleep)
+    pairs = []
+    for dove, place in lies:
+        above = [giving for giving in lies if giving[0] == dove and giving[1] > place]
+        if above:
+            pairs.append(((dove, place), min(above)))
+        sleeper, height = lies[dove, place]
+        pairs.extend(((dove, place), giving) for giving in lies if lies[giving] == (sleeper, height - 1))
+    return [pair for place, pair in enumerate(sorted(pairs)) if pair not in sorted(pairs)[:place]]
+
+
+def rings_by_hand(pairs):
+    """All rings of these waits, from each of their givings on."""
+    found = []
+    ways = [[first] for first in sorted({first for first, _ in pairs})]
+    while ways:
+        way = ways.pop()
+        for first, second in pairs:
+            if first == way[-1] and second == way[0]:
+                found.append(way)
+            if first == way[-1] and second not in way:
+                ways.append(way + [second])
+    return found
+
+
+def bars_by_hand(one, other, asleep):
+    """All that shows_bar holds for."""
+    found = lines_barring(one, other) + heaps_barring(one, other, asleep)
+    if not found:
+        found = [("ring", ring) for ring in rings_by_hand(waits_by_hand(one, other, asleep))]
     return found
 
 

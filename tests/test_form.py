@@ -32,7 +32,27 @@ FUNCTIONS = {
         "still": (["one", "other"], True),
         "first_moved": (["one", "other"], True),
     },
+    "givings.py": {
+        "givings": (["one", "other"], True),
+        "waits": (["one", "other"], True),
+    },
+    "between.py": {
+        "between": (["one", "other"], True),
+    },
+    "checks.py": {
+        "shows_row": (["one", "other", "thing"], True),
+        "shows_bar": (["one", "other", "thing"], True),
+    },
+    "counting.py": {
+        "how_many": (["standing"], False),
+        "nth": (["standing", "number"], False),
+        "number_of": (["standing", "other"], False),
+    },
 }
+
+
+# What the rules of the language let the package import from Python itself, so far as it is wanted.
+LIBRARY = {"math": ["comb"]}
 
 
 def files():
@@ -59,13 +79,16 @@ class Form(unittest.TestCase):
                 if isinstance(node, ast.FunctionDef):
                     self.assertLessEqual(node.end_lineno - node.lineno + 1, 40, (name, node.name))
 
-    def test_imports_are_of_the_package_alone(self):
+    def test_imports_are_of_the_package_and_of_the_library_alone(self):
         for name, _, tree in files():
             for node in ast.walk(tree):
                 self.assertNotIsInstance(node, ast.Import, name)
                 if isinstance(node, ast.ImportFrom):
                     self.assertEqual(node.level, 0, name)
-                    self.assertTrue(node.module.startswith("grudgecote."), (name, node.module))
+                    own = node.module.startswith("grudgecote.")
+                    for word in node.names:
+                        self.assertIsNone(word.asname, (name, word.name))
+                        self.assertTrue(own or word.name in LIBRARY.get(node.module, []), (name, word.name))
 
     def test_no_percent_sign_in_a_text_and_no_float(self):
         for name, _, tree in files():

@@ -7,7 +7,7 @@ import unittest
 
 from grudgecote.standings import is_standing
 
-from tests.helper import Promises, as_lists, as_tuples, guises, random_standings
+from tests.helper import Promises, as_lists, as_tuples, at, guises, places_in, random_standings, with_part
 
 SAMPLE = (((1, "ab"), (2, "c")), (), ((0, "abcdef"), (1, "z"), (0, "ab")))
 ATOMS = [0, 1, 2, 3, -1, -3, 10 ** 20, True, False, None, "", "a", "zz", "abcdef", "abcdefg", "A"]
@@ -29,29 +29,6 @@ def random_thing(chance, depth):
         return chance.choice(ATOMS)
     parts = [random_thing(chance, depth - 1) for _ in range(chance.randint(0, 3))]
     return tuple(parts) if chance.random() < 0.8 else parts
-
-
-def places_in(thing):
-    """The way to each part of the thing, the bare way to itself first."""
-    found = [()]
-    if isinstance(thing, tuple):
-        for place, part in enumerate(thing):
-            found.extend((place,) + way for way in places_in(part))
-    return found
-
-
-def at(thing, way):
-    for place in way:
-        thing = thing[place]
-    return thing
-
-
-def with_part(thing, way, part):
-    if not way:
-        return part
-    kept = list(thing)
-    kept[way[0]] = with_part(thing[way[0]], way[1:], part)
-    return tuple(kept)
 
 
 class IsStanding(Promises, unittest.TestCase):

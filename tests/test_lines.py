@@ -8,23 +8,11 @@ from grudgecote.errors import NoDove, NotSame
 from grudgecote.lines import cut, first_unlike, line, lines_of
 from grudgecote.standings import is_standing
 
-from tests.helper import HUGE, Promises, after_peck, random_pairs, random_standings, wander
+from tests.helper import (
+    HUGE, Promises, after_peck, line_by_hand, lines_barring, random_pairs, random_standings, wander)
 
 COTE = (((1, "a"), (2, "b"), (1, "c")), ((0, "d"), (0, "e"), (2, "f")), ((0, "g"),), ())
 ABSENT = (4, 5, HUGE, -1, -3, -4, -5, -HUGE)
-
-
-def line_by_hand(standing, one, other):
-    """Struck together grudge by grudge."""
-    words = []
-    for about, word in standing[one]:
-        if about == other:
-            words.append(word)
-    many = len(words)
-    for about, word in standing[other]:
-        if about == one:
-            words.insert(many, word)
-    return tuple(words)
 
 
 class Line(Promises, unittest.TestCase):
@@ -153,12 +141,8 @@ class FirstUnlike(Promises, unittest.TestCase):
         told = []
         for one, other, _ in random_pairs("first_unlike", 150):
             self.assertIs(is_standing(one) and is_standing(other), True)
-            wanted = None
-            for low, high in itertools.combinations(range(len(one)), 2):
-                both = itertools.zip_longest(line_by_hand(one, low, high), line_by_hand(other, low, high))
-                places = [place for place, (here, there) in enumerate(both) if here != there]
-                if places and wanted is None:
-                    wanted = (low, high, places[0])
+            bars = lines_barring(one, other)
+            wanted = bars[0][1:] if bars else None
             told.append(wanted)
             self.told(wanted, first_unlike, one=one, other=other)
         self.assertTrue(30 < told.count(None) < 120)

@@ -6,7 +6,8 @@ import unittest
 from grudgecote.errors import NotSame
 from grudgecote.still import first_moved, still
 
-from tests.helper import Promises, random_asleep, random_pairs, random_standings, wander
+from tests.helper import (
+    Promises, heaps_barring, random_asleep, random_pairs, random_standings, still_by_hand, wander)
 
 # Dove 0 has, from below: about 1, about the sleeper 3, about 1, about the sleeper 2, about 1.
 ONE = (((1, "a"), (3, "b"), (1, "c"), (2, "d"), (1, "e")), (), ((3, "f"),), ())
@@ -15,30 +16,6 @@ ONE = (((1, "a"), (3, "b"), (1, "c"), (2, "d"), (1, "e")), (), ((3, "f"),), ())
 def other_with(kept):
     """A standing of four doves in which dove 0 has so many grudges about sleepers."""
     return (((1, "x"),) + ((2, "y"),) * kept + ((1, "z"),), (), (), ())
-
-
-def still_by_hand(one, other, asleep):
-    many = []
-    for dove, heap in enumerate(one):
-        left = sum(1 for about, _ in other[dove] if about in asleep)
-        upto = 0
-        for place, (about, _) in enumerate(heap):
-            if dove in asleep:
-                upto = place + 1
-            elif about in asleep and left:
-                left -= 1
-                upto = place + 1
-        many.append(upto)
-    return tuple(many)
-
-
-def moved_by_hand(one, other, asleep):
-    for dove, many in enumerate(still_by_hand(one, other, asleep)):
-        there = list(other[dove]) + [None] * many
-        for place in range(many):
-            if one[dove][place] != there[place]:
-                return (dove, place)
-    return None
 
 
 class Still(Promises, unittest.TestCase):
@@ -136,7 +113,8 @@ class FirstMoved(Promises, unittest.TestCase):
     def test_of_many(self):
         told = []
         for one, other, asleep in random_pairs("first_moved", 200):
-            told.append(moved_by_hand(one, other, asleep))
+            bars = heaps_barring(one, other, asleep)
+            told.append(bars[0][1:] if bars else None)
             self.told(told[-1], first_moved, one=one, other=other, asleep=asleep)
         self.assertTrue(50 < told.count(None) < 180)
 
