@@ -36,6 +36,15 @@ def peck_down(heaps, dove, many):
     return row
 
 
+def give_in_turn(heaps, turn):
+    """Let givings be given in turn in these heaps; told is the row."""
+    row = []
+    for dove, place in turn:
+        # Nothing beneath a giving has moved before it, so it still lies at its place.
+        row.extend(peck_down(heaps, dove, place))
+    return row
+
+
 def gather(heaps, kept, asleep):
     """Let awake doves, each once, peck in these heaps until they have what they keep; told is the row.
 
@@ -52,10 +61,7 @@ def gather(heaps, kept, asleep):
 def row_with(one, other, turn, asleep):
     """A ROW that leads from one to other and in which givings are given in turn."""
     heaps = heaps_of(one)
-    row = []
-    for dove, place in turn:
-        # Nothing beneath a giving has moved before it, so it still lies at its place.
-        row.extend(peck_down(heaps, dove, place))
+    row = give_in_turn(heaps, turn)
     kept = still(one, other, asleep=asleep)
     row.extend(gather(heaps, kept, asleep))
     return row + backwards(other, gather(heaps_of(other), kept, asleep), asleep=asleep)

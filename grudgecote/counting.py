@@ -2,18 +2,11 @@
 
 from math import comb
 
-from grudgecote.errors import NoStanding, TooMany
+from grudgecote.errors import NoStanding
 from grudgecote.givings import need_unbarred
 from grudgecote.limits import MOST_GRUDGES
 from grudgecote.lines import cut, line, lines_of
-from grudgecote.standings import grudges_in, need_same
-
-
-def need_few(standing):
-    """Refuse a standing of too many grudges."""
-    grudges = grudges_in(standing)
-    if grudges > MOST_GRUDGES:
-        raise TooMany(grudges)
+from grudgecote.standings import need_few, need_same
 
 
 def cut_lists(lines):
@@ -124,13 +117,13 @@ def number_with(shares, standing):
 
 def how_many(standing):
     """How many STANDINGs pecks lead to, it among them."""
-    need_few(standing)
+    need_few(standing, MOST_GRUDGES)
     return sum([many_with(shares) for shares in all_shares(standing)])
 
 
 def nth(standing, number):
     """The STANDING of this number."""
-    need_few(standing)
+    need_few(standing, MOST_GRUDGES)
     left = number
     for shares in all_shares(standing):
         if 0 <= left < many_with(shares):
@@ -142,7 +135,7 @@ def nth(standing, number):
 def number_of(standing, other):
     """The number of one of them."""
     need_same(standing, other)
-    need_few(standing)
+    need_few(standing, MOST_GRUDGES)
     # Where all are awake everything can move, and a line alone bars.
     need_unbarred(standing, other, ())
     shares = shares_in(other)

@@ -47,12 +47,19 @@ def gifts_to(sleeper, one, other, given):
     return gifts
 
 
-def waits(one, other, *, asleep=()):
-    """The rising list of pairs (GIVING, GIVING), the first of which waits for the second."""
-    given = givings(one, other, asleep=asleep)
+def waits_among(given, gift_lists):
+    """The rising list of pairs of these givings, a rising list, the first of which waits for the second.
+
+    Each of the gift lists has those to one sleeper, as they lie there in the end.
+    """
     pairs = [(low, high) for low, high in zip(given, given[1:]) if low[0] == high[0]]
-    for sleeper in asleep:
-        gifts = gifts_to(sleeper, one, other, given)
+    for gifts in gift_lists:
         pairs.extend(list(zip(gifts[1:], gifts)))
     # A giving may lie right above in its heap and right beneath with the sleeper: one pair.
     return sorted(set(pairs))
+
+
+def waits(one, other, *, asleep=()):
+    """The rising list of pairs (GIVING, GIVING), the first of which waits for the second."""
+    given = givings(one, other, asleep=asleep)
+    return waits_among(given, [gifts_to(sleeper, one, other, given) for sleeper in asleep])

@@ -1,6 +1,6 @@
 """Standings: for each dove its heap, from below to above, of grudges (about, word)."""
 
-from grudgecote.errors import NoDove, NotSame
+from grudgecote.errors import NoDove, NotSame, TooMany
 
 LONGEST_WORD = 6
 
@@ -59,6 +59,13 @@ def need_same(one, other):
     """Refuse two standings that have not as many doves."""
     if len(one) != len(other):
         raise NotSame()
+
+
+def need_few(standing, most):
+    """Refuse a standing of more grudges than so many."""
+    grudges = grudges_in(standing)
+    if grudges > most:
+        raise TooMany(grudges)
 
 
 def uppermost(standing, dove):

@@ -6,6 +6,8 @@ import random
 
 SIGNS = "abcdefghijklmnopqrstuvwxyz"
 HUGE = 10 ** 5000
+# What things are made of: numbers, True, False, None, texts.
+ATOMS = [0, 1, 2, 3, -1, -3, 10 ** 20, True, False, None, "", "a", "zz", "abcdef", "abcdefg", "A"]
 
 
 def as_lists(thing):
@@ -60,6 +62,35 @@ def with_part(thing, way, part):
     return thing.__class__(kept)
 
 
+def nested(core, depth=10):
+    """The core so deep in lists and tuples, in several ways."""
+    for kinds in range(16):
+        thing = core
+        for level in range(depth):
+            thing = (thing,) if kinds >> level % 4 & 1 else [thing]
+        yield thing
+
+
+def others_like(thing, atoms):
+    """The thing with one part of it of another kind or worth, left out, or twice."""
+    for way in places_in(thing):
+        part = at(thing, way)
+        parts = atoms + [(), [], (0,), [0], (0, 1), [0, 1], [(0, 1), (1, 0)], (part,), [part]]
+        if isinstance(part, (list, tuple)):
+            parts += [list(part), tuple(part), part[1:], part[:-1], part + part[:1], part[::-1]]
+            parts += [part.__class__([*part, worth]) for worth in (0, None, (0, 0))]
+        for other in parts:
+            yield with_part(thing, way, other)
+
+
+def random_thing(chance, depth, atoms):
+    """Any thing of these atoms, in tuples and lists at most so deep."""
+    if depth == 0 or chance.random() < 0.3:
+        return chance.choice(atoms)
+    parts = [random_thing(chance, depth - 1, atoms) for _ in range(chance.randint(0, 3))]
+    return tuple(parts) if chance.random() < 0.7 else parts
+
+
 def random_standing(chance, doves=None, grudges=None):
     """A standing of so many doves and grudges, or of as many as come."""
     many = chance.randint(1, 8) if doves is None else doves
@@ -77,6 +108,12 @@ def random_standings(seed, many):
     """So many standings, the same for the same seed."""
     chance = random.Random(seed)
     return [random_standing(chance) for _ in range(many)]
+
+
+def random_alike(chance, doves=None, grudges=None):
+    """A standing of words that are often alike."""
+    standing = random_standing(chance, doves, grudges)
+    return tuple(tuple((about, "ab"[len(word) % 2]) for about, word in heap) for heap in standing)
 
 
 def random_asleep(chance, standing):
@@ -280,7 +317,11 @@ def givings_by_hand(one, other, asleep):
 
 
 def waits_by_hand(one, other, asleep):
-    lies = givings_by_hand(one, other, asleep)
+    return waits_of(givings_by_hand(one, other, asleep))
+
+
+def waits_of(lies):
+    """The rising list of who waits for whom, of givings and of where each lies in the end."""
     pairs = []
     for dove, place in lies:
         above = [giving for giving in lies if giving[0] == dove and giving[1] > place]
@@ -303,6 +344,11 @@ def rings_by_hand(pairs):
             if first == way[-1] and second not in way:
                 ways.append(way + [second])
     return found
+
+
+def wished(wish, standing):
+    """Whether each told dove has its heap there."""
+    return all(heap is None or heap == there for heap, there in zip(wish, standing))
 
 
 def bars_by_hand(one, other, asleep):

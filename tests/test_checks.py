@@ -10,8 +10,8 @@ from grudgecote.checks import shows_bar, shows_row
 from grudgecote.errors import NotSame
 
 from tests.helper import (
-    HUGE, Promises, all_led, at, bars_by_hand, gone_by_hand, guises, places_in, random_gifts, random_pairs,
-    shuffled, wander, with_kinds, with_part)
+    HUGE, Promises, all_led, bars_by_hand, gone_by_hand, guises, nested, others_like, random_gifts, random_pairs,
+    random_thing, shuffled, wander, with_kinds)
 
 ATOMS = [0, 1, 2, 3, 4, -1, -2, HUGE, -HUGE, True, False, None, "", "0", "a", "row", "line", "heap", "ring"]
 # Dove 2 sleeps and holds what it got; dove 0 can't give what lies lowest, where it keeps it.
@@ -24,34 +24,6 @@ RING = [(0, 0), (0, 1), (1, 0), (1, 1)]
 def turns(ring):
     """The ring from each of its givings on."""
     return [ring[start:] + ring[:start] for start in range(len(ring))]
-
-
-def nested(core, depth=10):
-    """The core so deep in lists and tuples, in several ways."""
-    for kinds in range(16):
-        thing = core
-        for level in range(depth):
-            thing = (thing,) if kinds >> level % 4 & 1 else [thing]
-        yield thing
-
-
-def random_thing(chance, depth):
-    if depth == 0 or chance.random() < 0.3:
-        return chance.choice(ATOMS)
-    parts = [random_thing(chance, depth - 1) for _ in range(chance.randint(0, 4))]
-    return tuple(parts) if chance.random() < 0.6 else parts
-
-
-def others_like(thing):
-    """The thing with one part of it of another kind or worth, left out, or twice."""
-    for way in places_in(thing):
-        part = at(thing, way)
-        parts = ATOMS + [(), [], (0,), [0], (0, 1), [0, 1], [(0, 1), (1, 0)], (part,), [part]]
-        if isinstance(part, (list, tuple)):
-            parts += [list(part), tuple(part), part[1:], part[:-1], part + part[:1], part[::-1]]
-            parts += [part.__class__([*part, worth]) for worth in (0, None, (0, 0))]
-        for other in parts:
-            yield with_part(thing, way, other)
 
 
 class Asks(Promises):
@@ -155,7 +127,7 @@ class ShowsRow(Asks, unittest.TestCase):
         one = (((1, "a"), (1, "b")), ((0, "c"),))
         right = [with_kinds(list(row)) for length in range(5) for row in itertools.product((0, 1), repeat=length)
                  if gone_by_hand(one, row, []) == one]
-        things = list(others_like([1, 0, 0, 1])) + [random_thing(chance, 3) for _ in range(2000)]
+        things = list(others_like([1, 0, 0, 1], ATOMS)) + [random_thing(chance, 3, ATOMS) for _ in range(2000)]
         self.assertGreater(len([thing for thing in things if with_kinds(thing) in right]), 5)
         for thing in things:
             if not (isinstance(thing, list) and len(thing) > 4):
@@ -315,7 +287,7 @@ class ShowsBar(Asks, unittest.TestCase):
         for one, other, asleep, thing in cases:
             right = [with_kinds(bar) for bar in bars_by_hand(one, other, asleep)]
             self.assertIn(with_kinds(thing), right)
-            things = list(others_like(thing)) + [random_thing(chance, 3) for _ in range(500)]
+            things = list(others_like(thing, ATOMS)) + [random_thing(chance, 3, ATOMS) for _ in range(500)]
             things += [deep for core in (thing, (), "line") for depth in range(1, 8) for deep in nested(core, depth)]
             for some in things:
                 before = with_kinds(some)

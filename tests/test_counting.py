@@ -10,7 +10,7 @@ from grudgecote.errors import Barred, NoStanding, NotSame, TooMany
 from grudgecote.standings import is_standing
 
 from tests.helper import (
-    HUGE, Promises, all_led, line_by_hand, lines_barring, random_standing, shuffled, tinkered, wander)
+    HUGE, Promises, all_led, line_by_hand, lines_barring, random_alike, random_standing, shuffled, tinkered, wander)
 
 # Small ones, from which all standings that pecks lead to are found one by one.
 COTES = [
@@ -53,12 +53,6 @@ def many_by_hand(standing):
     return many
 
 
-def random_few(chance, doves, grudges):
-    """A standing of words that are often alike."""
-    standing = random_standing(chance, doves, grudges)
-    return tuple(tuple((about, "ab"[len(word) % 2]) for about, word in heap) for heap in standing)
-
-
 class Counting(Promises, unittest.TestCase):
 
     def counted(self, standing):
@@ -83,9 +77,9 @@ class Counting(Promises, unittest.TestCase):
     def test_all_of_random_small_ones(self):
         chance = random.Random("counting")
         for _ in range(40):
-            self.counted(random_few(chance, chance.randint(2, 5), chance.randint(1, 4)))
+            self.counted(random_alike(chance, chance.randint(2, 5), chance.randint(1, 4)))
         for grudges in (5, 6):
-            self.counted(random_few(chance, 3, grudges))
+            self.counted(random_alike(chance, 3, grudges))
 
     def test_as_cuts_rise_pair_by_pair(self):
         cote = (((1, "a"), (2, "b")), ((2, "c"),), ())
@@ -143,7 +137,7 @@ class Counting(Promises, unittest.TestCase):
     def test_of_eight_doves_and_ten_grudges(self):
         chance = random.Random("eight doves")
         for _ in range(12):
-            standing = random_few(chance, 8, 10)
+            standing = random_alike(chance, 8, 10)
             many = how_many(standing)
             self.same(many, many_by_hand(standing))
             numbers = sorted({0, many - 1, *[chance.randrange(many) for _ in range(5)]})
@@ -171,7 +165,7 @@ class Counting(Promises, unittest.TestCase):
     def test_neighbours_rise(self):
         chance = random.Random("neighbours")
         for _ in range(15):
-            standing = random_few(chance, chance.randint(3, 8), chance.randint(5, 10))
+            standing = random_alike(chance, chance.randint(3, 8), chance.randint(5, 10))
             number = chance.randrange(how_many(standing))
             here = nth(standing, number)
             if number:
@@ -208,7 +202,7 @@ class Counting(Promises, unittest.TestCase):
                      other=(((1, "a"), (2, "b")), (), ((1, "x"),)))
         chance = random.Random("barred by a line")
         for _ in range(40):
-            standing = random_few(chance, chance.randint(2, 6), chance.randint(1, 10))
+            standing = random_alike(chance, chance.randint(2, 6), chance.randint(1, 10))
             other = tinkered(chance, wander(chance, standing, [], 20)[1][-1])
             bars = lines_barring(standing, other)
             if bars:

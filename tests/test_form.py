@@ -48,6 +48,26 @@ FUNCTIONS = {
         "nth": (["standing", "number"], False),
         "number_of": (["standing", "other"], False),
     },
+    "wishes.py": {
+        "is_wish": (["standing", "thing"], False),
+        "wish_bar": (["standing", "wish"], False),
+        "granted": (["standing", "wish"], False),
+        "how_many_so": (["standing", "wish"], False),
+    },
+    "sleepers.py": {
+        "given_bar": (["standing", "wish"], True),
+        "given_row": (["standing", "wish"], True),
+        "heaps_many": (["standing", "dove"], True),
+    },
+    "peace.py": {
+        "may_make": (["standing"], False),
+        "left_of": (["words"], False),
+        "left_in_end": (["standing"], False),
+        "done": (["standing", "deeds"], False),
+        "to_the_end": (["standing"], False),
+        "struck": (["words", "other"], False),
+        "may_come": (["one", "other"], False),
+    },
 }
 
 

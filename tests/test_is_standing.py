@@ -7,10 +7,10 @@ import unittest
 
 from grudgecote.standings import is_standing
 
-from tests.helper import Promises, as_lists, as_tuples, at, guises, places_in, random_standings, with_part
+from tests.helper import (
+    ATOMS, Promises, as_lists, as_tuples, at, guises, places_in, random_standings, random_thing, with_part)
 
 SAMPLE = (((1, "ab"), (2, "c")), (), ((0, "abcdef"), (1, "z"), (0, "ab")))
-ATOMS = [0, 1, 2, 3, -1, -3, 10 ** 20, True, False, None, "", "a", "zz", "abcdef", "abcdefg", "A"]
 WRITTEN_GRUDGE = r"\(\d+, '[a-z]{1,6}'\)"
 WRITTEN_HEAP = rf"\((?:{WRITTEN_GRUDGE}(?:, {WRITTEN_GRUDGE})+|{WRITTEN_GRUDGE},)?\)"
 WRITTEN_STANDING = rf"\((?:{WRITTEN_HEAP}(?:, {WRITTEN_HEAP})+|{WRITTEN_HEAP},)\)"
@@ -22,13 +22,6 @@ def written_as_one(thing):
         return False
     abouts = [(dove, about) for dove, heap in enumerate(thing) for about, _ in heap]
     return all(about < len(thing) and about != dove for dove, about in abouts)
-
-
-def random_thing(chance, depth):
-    if depth == 0 or chance.random() < 0.3:
-        return chance.choice(ATOMS)
-    parts = [random_thing(chance, depth - 1) for _ in range(chance.randint(0, 3))]
-    return tuple(parts) if chance.random() < 0.8 else parts
 
 
 class IsStanding(Promises, unittest.TestCase):
@@ -142,7 +135,7 @@ class IsStanding(Promises, unittest.TestCase):
     def test_any_things(self):
         chance = random.Random("any things")
         for _ in range(3000):
-            thing = random_thing(chance, chance.randint(0, 10))
+            thing = random_thing(chance, chance.randint(0, 10), ATOMS)
             self.asked(thing, written_as_one(thing))
         for _ in range(2000):
             heaps = [[(chance.randint(-1, 3), chance.choice(["a", "zz", "abcdef"]))
