@@ -1,7 +1,7 @@
 """Pecks: the uppermost grudge of an awake dove goes over to the dove that it is about."""
 
-from grudgecote.errors import Asleep, Bare, Kept
-from grudgecote.standings import heap_of, need_dove, standing_of
+from grudgecote.errors import Bare, Kept
+from grudgecote.standings import heap_of, need_awake, need_dove, standing_of
 
 
 def heaps_of(standing):
@@ -12,26 +12,25 @@ def heaps_of(standing):
 def need_peck(heaps, dove, asleep):
     """Refuse a peck that isn't let."""
     need_dove(heaps, dove)
-    if dove in asleep:
-        raise Asleep(dove)
+    need_awake(asleep, dove)
     if not heaps[dove]:
         raise Bare(dove)
 
 
 def peck_in(heaps, dove):
-    """Let a dove peck in these heaps; told is the dove that gets it."""
+    """Let a dove peck in these heaps; told is the pair (the dove that gets it, its word)."""
     about, word = heaps[dove].pop()
     heaps[about].append((dove, word))
-    return about
+    return (about, word)
 
 
 def go_in(heaps, row, asleep):
-    """Let a row of doves peck in these heaps; told are the doves that get it, place by place."""
-    takers = []
+    """Let a row of doves peck in these heaps; told is what peck_in tells, place by place."""
+    gifts = []
     for dove in row:
         need_peck(heaps, dove, asleep)
-        takers.append(peck_in(heaps, dove))
-    return takers
+        gifts.append(peck_in(heaps, dove))
+    return gifts
 
 
 def pecked(standing, dove, *, asleep=()):
@@ -48,7 +47,7 @@ def gone(standing, row, *, asleep=()):
 
 def backwards(standing, row, *, asleep=()):
     """The ROW that leads back, behind a row, to the standing."""
-    takers = go_in(heaps_of(standing), row, asleep)
+    takers = [taker for taker, _ in go_in(heaps_of(standing), row, asleep)]
     for place, taker in enumerate(takers):
         if taker in asleep:
             raise Kept(place)

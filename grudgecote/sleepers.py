@@ -3,11 +3,11 @@
 from math import comb
 
 from grudgecote.between import give_in_turn, in_turn, ring_in
-from grudgecote.errors import Awake, Barred
+from grudgecote.errors import Barred
 from grudgecote.givings import gifts_to, waits_among
 from grudgecote.lines import cut, unlike_at
 from grudgecote.pecks import heaps_of
-from grudgecote.standings import held, need_dove, standing_of
+from grudgecote.standings import held, need_asleep, need_dove, standing_of
 from grudgecote.still import sleepers_places
 from grudgecote.wishes import wish_of
 
@@ -107,8 +107,7 @@ def mingled(ways, many):
 def heaps_many(standing, dove, *, asleep=()):
     """How many unlike HEAPs a sleeper can come to have."""
     need_dove(standing, dove)
-    if dove not in asleep:
-        raise Awake(dove)
+    need_asleep(asleep, dove)
     # Each dove gives from above, so who gives, one behind the other, tells which grudges these are.
     ways = [1]
     for giver in range(len(standing)):

@@ -1,6 +1,6 @@
 """Standings: for each dove its heap, from below to above, of grudges (about, word)."""
 
-from grudgecote.errors import NoDove, NotSame, TooMany
+from grudgecote.errors import Asleep, Awake, NoDove, NotSame, TooMany
 
 LONGEST_WORD = 6
 
@@ -53,6 +53,18 @@ def need_dove(standing, dove):
     # Without this a dove below 0 would be read from the end.
     if not 0 <= dove < len(standing):
         raise NoDove(dove)
+
+
+def need_awake(asleep, dove):
+    """Refuse a dove that sleeps."""
+    if dove in asleep:
+        raise Asleep(dove)
+
+
+def need_asleep(asleep, dove):
+    """Refuse a dove that is awake."""
+    if dove not in asleep:
+        raise Awake(dove)
 
 
 def need_same(one, other):

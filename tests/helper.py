@@ -4,6 +4,8 @@ import copy
 import itertools
 import random
 
+from grudgecote.errors import Asleep, Awake, Bare, NoDove, NoPeace, Own
+
 SIGNS = "abcdefghijklmnopqrstuvwxyz"
 HUGE = 10 ** 5000
 # What things are made of: numbers, True, False, None, texts.
@@ -81,6 +83,15 @@ def others_like(thing, atoms):
             parts += [part.__class__([*part, worth]) for worth in (0, None, (0, 0))]
         for other in parts:
             yield with_part(thing, way, other)
+
+
+def texts_like(text, signs):
+    """The text with one sign left out, and with one of these put in or in the place of another."""
+    found = [text[:place] + text[place + 1:] for place in range(len(text))]
+    for sign in signs:
+        found += [text[:place] + sign + text[place:] for place in range(len(text) + 1)]
+        found += [text[:place] + sign + text[place + 1:] for place in range(len(text))]
+    return found
 
 
 def random_thing(chance, depth, atoms):
@@ -357,6 +368,138 @@ def bars_by_hand(one, other, asleep):
     if not found:
         found = [("ring", ring) for ring in rings_by_hand(waits_by_hand(one, other, asleep))]
     return found
+
+
+def strikings(words):
+    """All that is left of words by striking neighbours alike, found one by one."""
+    found = {tuple(words): True}
+    left = [tuple(words)]
+    while left:
+        here = left.pop()
+        for place in range(len(here) - 1):
+            there = here[:place] + here[place + 2:]
+            if here[place] == here[place + 1] and there not in found:
+                found[there] = True
+                left.append(there)
+    return list(found)
+
+
+def end_by_hand(words):
+    """The one thing left that has no neighbours alike."""
+    ends = [left for left in strikings(words) if all(one != two for one, two in zip(left, left[1:]))]
+    return ends[0] if len(ends) == 1 else ends
+
+
+def may_by_hand(standing):
+    """The pairs who may make peace."""
+    tops = {dove: heap[-1] for dove, heap in enumerate(standing) if heap}
+    return [(one, two) for one, two in itertools.combinations(sorted(tops), 2)
+            if tops[one][0] == two and tops[two] == (one, tops[one][1])]
+
+
+def lines_left(standing):
+    """What is left of each line in the end."""
+    pairs = itertools.combinations(range(len(standing)), 2)
+    ends = [(one, other, end_by_hand(line_by_hand(standing, one, other))) for one, other in pairs]
+    return [triple for triple in ends if triple[2]]
+
+
+def refusal_by_hand(standing, asleep, deed):
+    """None, or the refusal of one deed of a cote: its class and its field."""
+    word, *handed = deed
+    for dove in handed[:2 if word in ("peace", "lay") else 1]:
+        if dove not in range(len(standing)):
+            return NoDove, {"dove": dove}
+    sleepers = [dove for dove in handed[:2] if dove in asleep]
+    if word in ("peck", "peace", "sleep") and sleepers:
+        return Asleep, {"dove": sleepers[0]}
+    if word == "wake" and not sleepers:
+        return Awake, {"dove": handed[0]}
+    if word == "peck" and not standing[handed[0]]:
+        return Bare, {"dove": handed[0]}
+    if word == "peace" and tuple(sorted(handed)) not in may_by_hand(standing):
+        return NoPeace, {}
+    if word == "lay" and handed[0] == handed[1]:
+        return Own, {"dove": handed[0]}
+    return None
+
+
+def after_by_hand(standing, asleep, deed):
+    """What one deed of a cote that isn't refused leads to, and what it tells."""
+    word, *handed = deed
+    told = None
+    if word == "peck":
+        told = standing[handed[0]][-1]
+        standing = after_peck(standing, handed[0])[0]
+    elif word == "peace":
+        standing = tuple(heap[:-1] if dove in handed else heap for dove, heap in enumerate(standing))
+    elif word == "lay":
+        more = (tuple(handed[1:]),)
+        standing = tuple(heap + more if dove == handed[0] else heap for dove, heap in enumerate(standing))
+    elif word == "sleep":
+        asleep = tuple(sorted({*asleep, handed[0]}))
+    elif word == "wake":
+        asleep = tuple(sorted({*asleep} - {handed[0]}))
+    return standing, asleep, told
+
+
+class CoteByHand:
+    """A cote of which nothing is kept but how it began, what stands and what was done."""
+
+    def __init__(self, standing, asleep):
+        self.began = (standing, tuple(asleep))
+        self.stand = []
+        self.done = []
+
+    def behind(self, many):
+        """The standing and who sleeps behind the first so many deeds that stand."""
+        standing, asleep = self.began
+        for deed in self.stand[:many]:
+            for one in [("peck", dove) for dove in deed[1]] if deed[0] == "go" else [deed]:
+                standing, asleep, _ = after_by_hand(standing, asleep, one)
+        return standing, asleep
+
+    def do(self, deed):
+        """The refusal and what is told; of one that isn't refused it is done."""
+        if deed == ("undo",):
+            if not self.stand:
+                return None, False
+            self.stand.pop()
+            self.done.append(deed)
+            return None, True
+        standing, asleep = self.behind(len(self.stand))
+        told = []
+        for one in [("peck", dove) for dove in deed[1]] if deed[0] == "go" else [deed]:
+            refusal = refusal_by_hand(standing, asleep, one)
+            if refusal is not None:
+                return refusal, None
+            standing, asleep, gift = after_by_hand(standing, asleep, one)
+            told.append(gift)
+        self.stand.append(deed)
+        self.done.append(deed)
+        return None, told if deed[0] == "go" else told[0]
+
+
+def random_deed(chance, standing, asleep):
+    """A deed or an undo for a cote, let or not, told as its log tells it."""
+    doves = range(len(standing))
+    wrong = [-1, -len(standing), len(standing), len(standing) + 5]
+    dove, other = (chance.choice(wrong if chance.random() < 0.04 else doves) for _ in range(2))
+    word = chance.choice(["peck", "peck", "go", "peace", "peace", "lay", "lay", "sleep", "wake", "undo"])
+    if word == "go":
+        row = wander(chance, standing, asleep, chance.randint(0, 6))[0]
+        if chance.random() < 0.3:
+            row.insert(chance.randint(0, len(row)), dove)
+        return ("go", tuple(row))
+    if word == "peace":
+        pairs = may_by_hand(standing)
+        if pairs and chance.random() < 0.8:
+            dove, other = chance.sample(chance.choice(pairs), 2)
+        # No dove makes peace with itself.
+        return ("peace", dove, other if other != dove else dove + 1)
+    if word == "lay":
+        return ("lay", dove, other, chance.choice(["a", "a", "b", "abcdef"]))
+    return ("undo",) if word == "undo" else (word, dove)
 
 
 def with_kinds(thing):

@@ -68,6 +68,37 @@ FUNCTIONS = {
         "struck": (["words", "other"], False),
         "may_come": (["one", "other"], False),
     },
+    "few.py": {
+        "at_least": (["one", "other"], False),
+        "least_row": (["one", "other"], True),
+    },
+    "texts.py": {
+        "standing_text": (["standing"], False),
+        "standing_in": (["text"], False),
+    },
+    "desk.py": {
+        "run": (["text"], False),
+    },
+}
+METHODS = {
+    "__init__": (["standing"], True),
+    "peck": (["dove"], False),
+    "go": (["row"], False),
+    "peace": (["one", "other"], False),
+    "lay": (["dove", "about", "word"], False),
+    "sleep": (["dove"], False),
+    "wake": (["dove"], False),
+    "undo": ([], False),
+    "standing": ([], False),
+    "asleep": ([], False),
+    "told": (["standing"], False),
+    "deeds": ([], False),
+    "log": ([], False),
+    "as_of": (["many"], False),
+    "twin": ([], False),
+    "__len__": ([], False),
+    "__eq__": (["other"], False),
+    "__repr__": ([], False),
 }
 
 
@@ -117,16 +148,34 @@ class Form(unittest.TestCase):
                     self.assertNotIsInstance(node.value, float, name)
                     self.assertNotIn("%", str(node.value), name)
 
+    def test_no_generators_beside_a_class_that_compares(self):
+        for name, _, tree in files():
+            for node in ast.walk(tree):
+                self.assertNotIsInstance(node, (ast.GeneratorExp, ast.Yield, ast.YieldFrom), name)
+
+    def takes(self, node, words, sleepers):
+        """What a function is handed, by these names; who sleeps behind a star, and nobody where it's left out."""
+        handed = node.args
+        self.assertEqual([word.arg for word in handed.args], words, node.name)
+        self.assertEqual([word.arg for word in handed.kwonlyargs], ["asleep"] * sleepers, node.name)
+        self.assertEqual([ast.unparse(worth) for worth in handed.kw_defaults], ["()"] * sleepers, node.name)
+        self.assertEqual(handed.defaults, [], node.name)
+
     def test_functions_stand_where_the_interface_lists_them(self):
         trees = {name: tree for name, _, tree in files()}
         for name, functions in FUNCTIONS.items():
             defined = {node.name: node for node in trees[name].body if isinstance(node, ast.FunctionDef)}
             for function, (words, sleepers) in functions.items():
-                handed = defined[function].args
-                self.assertEqual([word.arg for word in handed.args], words, function)
-                self.assertEqual([word.arg for word in handed.kwonlyargs], ["asleep"] * sleepers, function)
-                self.assertEqual([ast.unparse(worth) for worth in handed.kw_defaults], ["()"] * sleepers, function)
-                self.assertEqual(handed.defaults, [], function)
+                self.takes(defined[function], words, sleepers)
+
+    def test_the_cote_and_its_methods_stand_where_the_interface_lists_them(self):
+        trees = {name: tree for name, _, tree in files()}
+        classes = [node for node in trees["cote.py"].body if isinstance(node, ast.ClassDef)]
+        self.assertEqual([node.name for node in classes], ["Cote"])
+        self.assertEqual(classes[0].bases, [])
+        defined = {node.name: node for node in classes[0].body if isinstance(node, ast.FunctionDef)}
+        for method, (words, sleepers) in METHODS.items():
+            self.takes(defined[method], ["self"] + words, sleepers)
 
 
 if __name__ == "__main__":

@@ -9,8 +9,9 @@ from grudgecote.errors import BadDeed, NotSame
 from grudgecote.peace import done, left_in_end, left_of, may_come, may_make, struck, to_the_end
 
 from tests.helper import (
-    HUGE, Promises, after_peck, all_led, line_by_hand, may_peck, nested, others_like, random_alike, random_standing,
-    random_standings, random_thing, shuffled, tinkered, wander, with_kinds)
+    HUGE, Promises, after_peck, all_led, end_by_hand, line_by_hand, lines_left, may_by_hand, may_peck, nested,
+    others_like, random_alike, random_standing, random_standings, random_thing, shuffled, strikings, tinkered, wander,
+    with_kinds)
 
 TRIO = (((2, "x"), (1, "a")), ((2, "b"), (0, "a")), ((1, "b"), (0, "x")))
 # Small ones, from which all standings that pecks and peace lead to are found one by one.
@@ -21,32 +22,6 @@ COTES = [
     (((1, "a"), (2, "b")), ((2, "c"), (0, "a")), ()),
     (((1, "a"), (1, "a"), (2, "a")), ((2, "a"),), ()),
 ]
-
-
-def strikings(words):
-    """All that is left of words by striking neighbours alike, found one by one."""
-    found = {tuple(words): True}
-    left = [tuple(words)]
-    while left:
-        here = left.pop()
-        for place in range(len(here) - 1):
-            there = here[:place] + here[place + 2:]
-            if here[place] == here[place + 1] and there not in found:
-                found[there] = True
-                left.append(there)
-    return list(found)
-
-
-def end_by_hand(words):
-    """The one thing left that has no neighbours alike."""
-    ends = [left for left in strikings(words) if all(one != two for one, two in zip(left, left[1:]))]
-    return ends[0] if len(ends) == 1 else ends
-
-
-def may_by_hand(standing):
-    tops = {dove: heap[-1] for dove, heap in enumerate(standing) if heap}
-    return [(one, two) for one, two in itertools.combinations(sorted(tops), 2)
-            if tops[one][0] == two and tops[two] == (one, tops[one][1])]
 
 
 def after_deed(standing, deed):
@@ -98,12 +73,6 @@ def is_deed_by_hand(thing, doves):
     return with_kinds(list(parts)) in written
 
 
-def lines_left(standing):
-    pairs = itertools.combinations(range(len(standing)), 2)
-    ends = [(one, other, end_by_hand(line_by_hand(standing, one, other))) for one, other in pairs]
-    return [triple for triple in ends if triple[2]]
-
-
 class Peace(Promises, unittest.TestCase):
 
     def test_who_may_make_it(self):
@@ -140,8 +109,8 @@ class Peace(Promises, unittest.TestCase):
 
     def test_what_is_left_of_words(self):
         cases = [("", ""), ("a", "a"), ("aa", ""), ("aaa", "a"), ("aaaa", ""), ("ab", "ab"), ("abba", ""),
-                 ("aba", "aba"), ("abbab", "b"), ("abab", "abab"), ("aabb", ""), ("abccba", ""), ("abcba", "abcba"), ("abbc", "ac"),
-                 ("baab", ""), ("baabb", "b"), ("abbba", "aba"), ("cabbac", ""), ("cabbad", "cd")]
+                 ("aba", "aba"), ("abbab", "b"), ("abab", "abab"), ("aabb", ""), ("abccba", ""), ("abcba", "abcba"),
+                 ("abbc", "ac"), ("baab", ""), ("baabb", "b"), ("abbba", "aba"), ("cabbac", ""), ("cabbad", "cd")]
         for words, left in cases:
             self.told(tuple(left), left_of, words=list(words))
         self.told((), left_of, words=["ab", "ab"])
@@ -231,7 +200,8 @@ class Deeds(Promises, unittest.TestCase):
     def test_things_that_are_none(self):
         for thing in [None, True, False, 0, 1, -1, HUGE, "", "peck", "peace", "peck 0", (), [], ("peck",), ("peace",),
                       ("peck", 0, 1), ("peck", 0, 0), ("peace", 0), ("peace", 0, 1, 2), ("peace", (0, 1)),
-                      ("peck", (0,)), ("peck", "0"), ("peck", None), ("peck", [0]), ("peace", "0", "1"), ("peace", None, 1),
+                      ("peck", (0,)), ("peck", "0"), ("peck", None), ("peck", [0]), ("peace", "0", "1"),
+                      ("peace", None, 1),
                       ("Peck", 0), ("pecks", 0), ("", 0), (0, "peck"), (0, 1), (0,), (None, 0), (["peck"], 0),
                       ("peck", 3), ("peck", 99), ("peck", HUGE), ("peck", -1), ("peck", -2), ("peck", -HUGE),
                       ("peace", 0, 3), ("peace", 3, 4), ("peace", -1, 0), ("peace", -3, -2), ("peace", -3, 1),

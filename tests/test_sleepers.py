@@ -248,7 +248,8 @@ class Sleepers(Promises, unittest.TestCase):
         self.assertEqual(told is None, any(wished(wish, other) for other in led))
         for dove, heap in enumerate(wish):
             if heap is not None:
-                longest = max(upto for other in led for upto in range(len(heap) + 1) if other[dove][:upto] == heap[:upto])
+                longest = max(upto for other in led for upto in range(len(heap) + 1)
+                              if other[dove][:upto] == heap[:upto])
                 if longest < max(len(heap), len(standing[dove])):
                     self.same(told, ("heap", dove, longest))
                     break
